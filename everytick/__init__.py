@@ -1,0 +1,1 @@
+"""Everytick: a synchronous language, from texts to machines."""

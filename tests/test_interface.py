@@ -1,0 +1,125 @@
+"""The interface of DOC.md: names, arguments, where they are defined, and what they leave alone."""
+
+import ast
+import copy
+import importlib
+import inspect
+import os
+import unittest
+
+import everytick
+from everytick.clocks import BadClock, clash_of, clocks_of, place_clocks
+from everytick.errors import TickError
+from everytick.kinds import fault_of, fits, interface_of, kind_of, kinds_in
+from everytick.places import expression_at, linked, places_of
+from everytick.printing import print_expression, print_program
+from everytick.program_texts import read_program
+from everytick.programs import is_program, node_named, parts_of, variables_in
+from everytick.reading import read_expression
+from everytick.uses import equations_of, needed, renamed, uses, without_unused
+from tests.fitting import Fitting
+
+INTERFACE = {
+    "errors": ("TickError", "BadText", "NotAllowed", "TooMany"),
+    "programs": ("is_small(value)", "is_great(value)", "is_kind(sorts, value)", "is_program(value)",
+                 "is_expression(sorts, value)", "values_of(sorts, kind)", "is_value(sorts, kind, value)",
+                 "node_named(program, name)", "parts_of(expression)", "variables_in(expression)"),
+    "printing": ("print_kind(kind)", "print_expression(expression)", "print_program(program)"),
+    "reading": ("read_expression(sorts, text)",),
+    "program_texts": ("read_program(text)",),
+    "kinds": ("kind_of(program, kinds, expression)", "kinds_in(node)", "fault_of(program)", "fits(program)",
+              "interface_of(program, name)"),
+    "uses": ("equations_of(node)", "uses(node)", "needed(program)", "without_unused(program)",
+             "renamed(program, names)"),
+    "places": ("places_of(program, name)", "expression_at(program, name, place)", "linked(program, name, one, other)"),
+    "clocks": ("BadClock", "place_clocks(program, name)", "clocks_of(program, name)", "clash_of(program)"),
+}
+
+
+class InterfaceTest(unittest.TestCase):
+    def test_names_and_arguments(self):
+        for file, names in INTERFACE.items():
+            module = importlib.import_module(f"everytick.{file}")
+            for text in names:
+                name = text.split("(")[0]
+                self.assertTrue(hasattr(module, name), (file, name))
+                if "(" in text:
+                    self.assertEqual(name + str(inspect.signature(getattr(module, name))), text)
+
+    def test_each_is_defined_in_its_file(self):
+        folder = os.path.dirname(os.path.abspath(everytick.__file__))
+        for file, names in INTERFACE.items():
+            with open(os.path.join(folder, file + ".py"), encoding="utf-8") as source:
+                tree = ast.parse(source.read())
+            defined = [row.name for row in tree.body if isinstance(row, (ast.FunctionDef, ast.ClassDef))]
+            for text in names:
+                self.assertIn(text.split("(")[0], defined)
+
+    def test_errors(self):
+        for name in INTERFACE["errors"]:
+            self.assertTrue(issubclass(getattr(importlib.import_module("everytick.errors"), name), TickError))
+        self.assertTrue(issubclass(BadClock, TickError))
+
+
+class ArgumentsTest(unittest.TestCase):
+    """[0.4]: no function modifies its arguments, and none hands out a list or dict that it keeps."""
+
+    def test_dicts_stay(self):
+        value = Fitting(3).program(2)
+        names = {"x0": "q", "other": "r"}
+        kinds = kinds_in(value[1][0])
+        before = (copy.deepcopy(names), copy.deepcopy(kinds))
+        renamed(value, names)
+        for _, right in equations_of(value[1][0]):
+            if right[0] != "call":
+                kind_of(value, kinds, right)
+        self.assertEqual((names, kinds), before)
+
+    def test_results_are_new(self):
+        value = Fitting(4).program(3)
+        node = value[1][-1]
+        name = node[0]
+        for make in (lambda: equations_of(node), lambda: uses(node), lambda: needed(value), lambda: kinds_in(node),
+                     lambda: place_clocks(value, name), lambda: variables_in(("and", ("var", "a"), ("var", "b")))):
+            first = make()
+            kept = copy.deepcopy(first)
+            first.clear()
+            self.assertEqual(make(), kept)
+
+    def test_results_are_tuples_where_the_document_says_so(self):
+        value = Fitting(4).program(3)
+        name = value[1][-1][0]
+        self.assertTrue(is_program(value) and is_program(without_unused(value)) and is_program(renamed(value, {})))
+        self.assertTrue(is_program(read_program(print_program(value))))
+        for found in (interface_of(value, name), places_of(value, name), clocks_of(value, name),
+                      parts_of(("not", ("var", "x"))), node_named(value, name), read_expression((), "x")):
+            self.assertIsInstance(found, tuple)
+        self.assertIs(fits(value), True)
+        self.assertIsNone(fault_of(value))
+        self.assertIsNone(clash_of(value))
+        place = places_of(value, name)[-1]
+        self.assertIsInstance(expression_at(value, name, place), tuple)
+        self.assertIsNone(linked(value, name, place, place))
+        self.assertIsInstance(print_expression(("var", "x")), str)
+
+
+class ExamplesTest(unittest.TestCase):
+    """The examples that stand in the interface."""
+
+    def test_expressions(self):
+        self.assertEqual(
+            repr(read_expression((), "false -> pre x and not (y or x)")),
+            "('arrow', ('const', False, 'bool'), ('and', ('pre', ('var', 'x')), ('not', ('or', ('var', 'y'), "
+            "('var', 'x')))))")
+        self.assertEqual(print_expression(("when", ("add", ("const", 0, ("mod", 8)), ("var", "n")), "c", True)),
+                         "(0:8 + n) when c")
+
+    def test_clocks(self):
+        read = read_program(
+            "node half(c: bool, x: bool) -> (y: bool)\nvar a: bool, b: bool\na = x when c\nb = a or true\n"
+            "y = merge c (false -> false) (true -> b)\nend\nmain half")
+        self.assertEqual(
+            repr(clocks_of(read, "half")),
+            "(('c', ()), ('x', ()), ('y', ()), ('a', (('c', True),)), ('b', (('c', True),)))")
+        read = read_program("node bad(c: bool, x: bool) -> (y: bool)\ny = x when c\nend\nmain bad")
+        self.assertEqual(clash_of(read), ("bad", ("y", (0, ()), (0, (0,)))))
