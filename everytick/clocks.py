@@ -88,23 +88,19 @@ def _depths(name, links, start):
     for place in steps:
         for other, link in links[place]:
             if depths[other] != depths[place] + STEPS[link[0]]:
-                raise BadClock(name, _ring(_way(steps, place), _way(steps, other)))
+                raise BadClock(name, _there_and_back(steps, other, place))
     return depths
 
 
-def _ring(one, other):
-    """Return the chain that goes to the end of one way, steps to the end of the other, and goes back to the start."""
-    k = 0
-    while k + 1 < min(len(one), len(other)) and one[k + 1] == other[k + 1]:
-        k += 1
-    return (*one[k:], *other[k:][::-1])
+def _there_and_back(steps, one, other):
+    """Return the chain from the start to one of two linked places, on to the other, and back to the start."""
+    return (*_way(steps, one), *_way(steps, other)[::-1])
 
 
 def _look_above(name, links, depths, fixed):
     """Raise BadClock if a place has a shorter clock than an input or output: that is a clash of the second case."""
-    least = min(list(depths.values()))
     for x in fixed:
-        if x in depths and depths[x] > least:
+        if x in depths:
             steps = _search(links, x)
             for place in steps:
                 if depths[place] < depths[x]:
@@ -128,22 +124,18 @@ def _spread(name, links, start, clocks):
         clocks[place] = ()
         if steps[place] is not None:
             before, link = steps[place]
-            if not _is_step(clocks[before], link):
-                raise BadClock(name, tuple(_way(steps, place)))
             clocks[place] = _behind(clocks[before], link)
     for place in steps:
         for other, link in links[place]:
-            if not _is_step(clocks[place], link) or clocks[other] != _behind(clocks[place], link):
-                raise BadClock(name, (*_way(steps, other), *_way(steps, place)[::-1]))
-
-
-def _is_step(clock, link):
-    """Tell whether a step along a link can be taken from a place with a clock."""
-    return link[0] != "above" or clock[-1] == link[1:]
+            if clocks[other] != _behind(clocks[place], link):
+                raise BadClock(name, _there_and_back(steps, other, place))
 
 
 def _behind(clock, link):
-    """Return the clock behind a step along a link."""
+    """Return the clock behind a step along a link.
+
+    Whether a step takes away the right pair shows when the link is looked at from its other end.
+    """
     if link[0] == "below":
         return (*clock, link[1:])
     if link[0] == "above":

@@ -74,11 +74,18 @@ def _print_constant(value, kind):
 def print_program(program):
     """Return the text of a program, without a newline at its end."""
     sorts, nodes, main = program
-    lines = [f"sort {name} = {' | '.join(constructors)}" for name, constructors in sorts]
+    lines = [print_sort(sort) for sort in sorts]
     for node in nodes:
         lines.extend(print_node(node))
     lines.append(f"main {main}")
     return "\n".join(lines)
+
+
+def print_sort(sort):
+    """Return the line of a sort."""
+    name, constructors = sort
+    row = " | ".join(constructors)
+    return f"sort {name} = {row}"
 
 
 def print_node(node):
@@ -103,7 +110,9 @@ def _print_declared(pairs):
 def print_equation(equation):
     """Return the line of an equation."""
     names, right = equation
-    left = names[0] if len(names) == 1 else f"({', '.join(names)})"
+    left = ", ".join(names)
+    if len(names) > 1:
+        left = f"({left})"
     if right[0] == "call":
         return f"{left} = {_print_call(right)}"
     return f"{left} = {print_expression(right)}"
@@ -111,10 +120,10 @@ def print_equation(equation):
 
 def _print_call(call):
     _, name, args, reset = call
-    text = f"{name}({', '.join([print_expression(arg) for arg in args])})"
+    texts = ", ".join([print_expression(arg) for arg in args])
     if reset is None:
-        return text
-    return f"{text} every {print_expression(reset)}"
+        return f"{name}({texts})"
+    return f"{name}({texts}) every {print_expression(reset)}"
 
 
 def _print_block(block):

@@ -3,6 +3,7 @@
 SMALL = "abcdefghijklmnopqrstuvwxyz"
 GREAT = "ABCDEFGHIJKLMNOPQRSTUVWXYZ"
 DIGITS = "0123456789"
+LETTERS = "abcdefghijklmnopqrstuvwxyzABCDEFGHIJKLMNOPQRSTUVWXYZ0123456789"
 
 WORDS = (
     "and", "bool", "continue", "else", "end", "every", "false", "fby", "if", "is", "main", "merge", "mod",
@@ -38,7 +39,7 @@ def is_small(value):
 
 def is_great(value):
     """Tell whether any value is a great name."""
-    return isinstance(value, str) and _is_made_of(value, GREAT, SMALL + GREAT + DIGITS)
+    return isinstance(value, str) and _is_made_of(value, GREAT, LETTERS)
 
 
 def _is_made_of(text, first, rest):
@@ -70,7 +71,7 @@ def is_kind(sorts, value):
         return False
     if value[0] == "mod":
         return is_whole(value[1], 2, MAX_MOD)
-    return value[0] == "sort" and isinstance(value[1], str) and value[1] in [name for name, _ in sorts]
+    return value[0] == "sort" and value[1] in [name for name, _ in sorts]
 
 
 def values_of(sorts, kind):
@@ -92,7 +93,7 @@ def is_value(sorts, kind, value):
         return isinstance(value, bool)
     if kind[0] == "mod":
         return is_whole(value, 0, kind[1] - 1)
-    return isinstance(value, str) and value in values_of(sorts, kind)
+    return value in values_of(sorts, kind)
 
 
 def is_label(value):
@@ -240,7 +241,7 @@ def _are_transitions(sorts, value):
 def _is_transition(sorts, value):
     if not is_tuple(value, 3, 3) or not is_expression(sorts, value[0]):
         return False
-    return isinstance(value[1], str) and value[1] in ("then", "continue") and is_great(value[2])
+    return value[1] in ("then", "continue") and is_great(value[2])
 
 
 def is_node(sorts, value):

@@ -1,9 +1,8 @@
 """The signs of one line of a text: words, names, digits, and the marks between them ([1.11])."""
 
 from everytick.errors import BadText
-from everytick.programs import DIGITS, GREAT, MAX_MOD, SMALL, is_great, is_small
+from everytick.programs import DIGITS, LETTERS, MAX_MOD, is_great, is_small
 
-LETTERS = SMALL + GREAT + DIGITS
 DOUBLE_MARKS = ("->", "<>", "<=")
 MARKS = "()=<+-*:,|"
 

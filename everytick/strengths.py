@@ -22,14 +22,20 @@ INFIX = {
     "mul": ("*", 8, 8, 9),
 }
 
-OTHERS = {"if": IF, "not": NOT, "when": WHEN, "pre": PRE}
-
 
 def strength_of(word):
     """Return the strength of the trees with a word."""
     if word in INFIX:
         return INFIX[word][1]
-    return OTHERS.get(word, ATOM)
+    if word == "if":
+        return IF
+    if word == "not":
+        return NOT
+    if word == "when":
+        return WHEN
+    if word == "pre":
+        return PRE
+    return ATOM
 
 
 def infix_word(sign):

@@ -56,6 +56,8 @@ class NamesTest(FaultsTest):
 
     def test_variables_of_other_nodes_do_not_matter(self):
         self.fine(program(node([EQUATION]), node([EQUATION], name="x"), main="x"))
+        self.fine(program(node([EQUATION], name="x"), node([EQUATION])))
+        self.fine(program(node([(("y",), TRUE)], [], name="x"), node([(("y",), ("call", "x", (), X))])))
 
 
 class EquationsTest(FaultsTest):
@@ -223,6 +225,8 @@ class DefinitionsTest(FaultsTest):
         self.fault(self.body(block(one, other), EQUATION), ("again", "f", 2))
         self.fault(self.body(EQUATION, block(one, other)), ("again", "f", 1))
         self.fault(self.body(block(one, other), block(one, other)), ("again", "f", 2))
+        self.fault(self.body(block(one, state("B")), block(state("A"), other)), ("again", "f", 1))
+        self.fault(self.body(block(state("A"), other), block(one, state("B"))), ("again", "f", 1))
         g = node([(("a",), TRUE), (("b",), TRUE)], [], [("a", "bool"), ("b", "bool")], name="g")
         value = program(g, node([block(one, state("B", [(("y", "y"), call("g"))]))]))
         self.fault(value, ("again", "f", 1))

@@ -1,6 +1,7 @@
 """[1.10] and [1.11]: reading expressions."""
 
 import random
+import string
 import unittest
 
 from everytick.errors import BadText
@@ -117,6 +118,28 @@ class LeavesTest(ReadingTest):
         self.fails("Color")
         self.fails("Yellow")
         self.fails("GREEN")
+
+    def test_every_letter_and_digit(self):
+        for letter in string.ascii_letters + string.digits:
+            for name in (f"x{letter}", f"x{letter}9"):
+                if letter.isupper():
+                    self.fails(name)
+                else:
+                    self.reads(name, ("var", name))
+            self.reads(f"x when c is Q{letter}", ("when", X, "c", f"Q{letter}"))
+        for letter in string.ascii_lowercase:
+            self.reads(letter + "0", ("var", letter + "0"))
+            self.reads(f"x when c is {letter.upper()}0", ("when", X, "c", letter.upper() + "0"))
+            for text in (f"1:8{letter}", f"{letter}:8", f"1{letter}:8"):
+                self.fails(text)
+
+    def test_every_number(self):
+        for n in range(2, 33):
+            for k in range(n):
+                self.reads(f"{k}:{n}", number(k, n))
+            self.fails(f"{n}:{n}")
+        for k in range(32):
+            self.reads(f"x when c is {k}", ("when", X, "c", k))
 
     def test_names(self):
         self.reads("longname", ("var", "longname"))
