@@ -1,7 +1,7 @@
 """Kinds of expressions, and the faults of programs ([2.1] to [2.4])."""
 
 from everytick.definitions import definition_fault
-from everytick.programs import is_value, marked, node_named, parts_of, values_of, variables_in
+from everytick.programs import has_word, is_value, marked, node_named, parts_of, values_of, variables_in
 from everytick.uses import blocks_of, equations_of, expressions_in, variables_of_equation
 
 MEMORIES = ("pre", "arrow", "fby")
@@ -65,13 +65,7 @@ def _kind_of_merge(program, kinds, expression, found):
 
 def has_memory(expression):
     """Tell whether pre, arrow or fby stands anywhere in an expression."""
-    rest = [expression]
-    while rest:
-        tree = rest.pop()
-        if tree[0] in MEMORIES:
-            return True
-        rest.extend(parts_of(tree))
-    return False
+    return has_word(expression, MEMORIES)
 
 
 def kinds_in(node):

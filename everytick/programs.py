@@ -179,6 +179,17 @@ def variables_in(expression):
     return sorted(found)
 
 
+def has_word(expression, words):
+    """Tell whether one of some words stands anywhere in an expression."""
+    rest = [expression]
+    while rest:
+        tree = rest.pop()
+        if tree[0] in words:
+            return True
+        rest.extend(parts_of(tree))
+    return False
+
+
 def is_sort(value):
     """Tell whether any value is a sort."""
     if not is_tuple(value, 2, 2) or not is_great(value[0]):

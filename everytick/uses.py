@@ -95,7 +95,7 @@ def _renamed_entry(fresh, entry):
     if entry[0] == "states":
         return ("states", tuple([_renamed_state(fresh, state) for state in entry[1]]))
     names, right = entry
-    return (tuple([fresh[x] for x in names]), _renamed_right(fresh, right))
+    return (tuple([fresh[x] for x in names]), renamed_right(fresh, right))
 
 
 def _renamed_state(fresh, state):
@@ -108,7 +108,8 @@ def _renamed_state(fresh, state):
     )
 
 
-def _renamed_right(fresh, right):
+def renamed_right(fresh, right):
+    """Return a right side with its variables exchanged by a dict that has all of them as keys."""
     if right[0] != "call":
         return renamed_expression(fresh, right)
     _, node, args, reset = right

@@ -43,6 +43,10 @@ NO_WORDS = (
 NO_ATTRIBUTES = set(
     "items keys values pop update append clear extend insert remove reverse setdefault sort args encode decode hex "
     "fromhex format as_integer_ratio bit_count conjugate from_bytes is_integer to_bytes format_map mro".split())
+FREE_METHODS = set(
+    "append clear copy count endswith extend find get index insert isalnum isalpha isdigit islower isspace isupper items "
+    "join keys ljust lower lstrip partition pop remove replace reverse rfind rjust rpartition rsplit rstrip setdefault "
+    "split splitlines startswith strip update upper values zfill bit_length add discard".split())
 NO_PREFIXES = ("_wall", "_pe_", "_dcw_", "_enum_", "_cm_", "_twin_re_", "_lay_", "_law_", "_stub_", "_sre", "_WallAttr")
 CAUGHT = {"KeyError", "ZeroDivisionError", "StopIteration", "ValueError", "LookupError", "IndexError"}
 AT_ONCE = {"zip", "enumerate", "reversed", "map"}
@@ -50,6 +54,7 @@ TAKES_AT_ONCE = {"list", "tuple", "dict", "sorted", "sum", "any", "all", "enumer
 KEYWORDS = {"sorted": {"key", "reverse"}, "min": {"key", "default"}, "max": {"key", "default"}, "sum": {"start"},
             "enumerate": {"start"}, "zip": {"strict"}}
 PYTHON_NAMES = set(dir(builtins))
+BUILTIN_METHODS = {name for kind in (str, int, list, dict, set, bytes, tuple) for name in dir(kind)}
 
 
 class Package:
@@ -266,6 +271,11 @@ class Looker:
             self.say("L15", node, f"{node.name} is the name of a builtin")
         if isinstance(parent, ast.ClassDef) and node.name in BUILTINS:
             self.say("L8", node, f"{node.name} is the name of a builtin")
+        if isinstance(parent, ast.ClassDef) and not node.name.startswith("__"):
+            if node.name in BUILTIN_METHODS - FREE_METHODS:
+                self.say("L26", node, f"a method {node.name}")
+            if node.name in ("add", "discard"):
+                self.say("L24", node, "sets that are stored have a method of this name")
 
     def look_at_classdef(self, node):
         if node.decorator_list:
@@ -336,9 +346,26 @@ class Looker:
             self.say("L26", node, f"an attribute {node.attr}")
         if node.attr.startswith("__") and node.attr not in DOUBLE:
             self.say("L8", node, node.attr)
+        if node.attr in self.package.methods and not self.is_called(node) and not self.is_key(node):
+            self.say("L25", node, f"the method {node.attr} is not called where it stands")
+
+    def is_called(self, node):
+        parent = self.parents[node]
+        return isinstance(parent, ast.Call) and parent.func is node
+
+    def is_key(self, node):
+        parent = self.parents[node]
+        return isinstance(parent, ast.keyword) and parent.arg == "key"
 
     def look_at_call(self, node):
         function = node.func
+        stars = [k for k, arg in enumerate(node.args) if isinstance(arg, ast.Starred)]
+        for k in stars:
+            if not isinstance(node.args[k].value, (ast.Name, ast.Attribute)):
+                self.say("L7", node, "a star over what has no name")
+        for arg in node.args[stars[0] + 1:] if stars else ():
+            if not isinstance(arg, (ast.Name, ast.Attribute, ast.Constant, ast.List, ast.Tuple, ast.Dict, ast.Starred)):
+                self.say("L7", node, "what stands behind a star")
         if isinstance(function, ast.Attribute):
             if function.attr not in METHODS | self.package.methods:
                 self.say("L25", node, f"a method {function.attr}")

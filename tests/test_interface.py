@@ -8,16 +8,22 @@ import os
 import unittest
 
 import everytick
+from everytick.causality import BadRing, at_once, first_ring, needs, ring_of
 from everytick.clocks import BadClock, clash_of, clocks_of, place_clocks
 from everytick.errors import TickError
 from everytick.kinds import fault_of, fits, interface_of, kind_of, kinds_in
+from everytick.meaning import beginning, instant, run, trace
 from everytick.places import expression_at, linked, places_of
 from everytick.printing import print_expression, print_program
 from everytick.program_texts import read_program
 from everytick.programs import is_program, node_named, parts_of, variables_in
 from everytick.reading import read_expression
+from everytick.reaching import reaches
+from everytick.schedules import first_schedule, rounds, swaps
+from everytick.states import translated
 from everytick.uses import equations_of, needed, renamed, uses, without_unused
 from tests.fitting import Fitting
+from tests.righting import Righting
 
 INTERFACE = {
     "errors": ("TickError", "BadText", "NotAllowed", "TooMany"),
@@ -33,6 +39,14 @@ INTERFACE = {
              "renamed(program, names)"),
     "places": ("places_of(program, name)", "expression_at(program, name, place)", "linked(program, name, one, other)"),
     "clocks": ("BadClock", "place_clocks(program, name)", "clocks_of(program, name)", "clash_of(program)"),
+    "meaning": ("beginning(program)", "is_row(program, value)", "is_state(program, value)",
+                "instant(program, state, row)", "run(program, rows)", "trace(program, rows)"),
+    "causality": ("BadRing", "at_once(right)", "needs(program, name)", "first_ring(program, name)", "ring_of(program)",
+                  "is_causal(program)", "is_right(program)"),
+    "schedules": ("is_schedule(program, name, value)", "first_schedule(program, name)", "rounds(program, name)",
+                  "swaps(one, other)"),
+    "reaching": ("reaches(program, name)",),
+    "states": ("has_blocks(program)", "are_blocks(program)", "translated(program)"),
 }
 
 
@@ -59,6 +73,7 @@ class InterfaceTest(unittest.TestCase):
         for name in INTERFACE["errors"]:
             self.assertTrue(issubclass(getattr(importlib.import_module("everytick.errors"), name), TickError))
         self.assertTrue(issubclass(BadClock, TickError))
+        self.assertTrue(issubclass(BadRing, TickError))
 
 
 class ArgumentsTest(unittest.TestCase):
@@ -102,6 +117,24 @@ class ArgumentsTest(unittest.TestCase):
         self.assertIsNone(linked(value, name, place, place))
         self.assertIsInstance(print_expression(("var", "x")), str)
 
+    def test_right_programs_give_tuples(self):
+        value = Righting(4, nil=0).program(3)
+        rows = Righting(4).rows(value, 3)
+        name = value[1][-1][0]
+        order = first_schedule(value, name)
+        found = [beginning(value), instant(value, beginning(value), rows[0]), run(value, rows), trace(value, rows),
+                 needs(value, name), at_once(("var", "x")), order, rounds(value, name), swaps(order, order),
+                 reaches(value, name), translated(Righting(4, blocks=1.0).program(2))]
+        for row in found:
+            self.assert_of_tuples(row)
+        self.assertIsNone(first_ring(value, name))
+        self.assertIsNone(ring_of(value))
+
+    def assert_of_tuples(self, value):
+        self.assertIn(type(value), (tuple, str, int, bool, type(None)))
+        for part in value if isinstance(value, tuple) else ():
+            self.assert_of_tuples(part)
+
 
 class ExamplesTest(unittest.TestCase):
     """The examples that stand in the interface."""
@@ -123,3 +156,13 @@ class ExamplesTest(unittest.TestCase):
             "(('c', ()), ('x', ()), ('y', ()), ('a', (('c', True),)), ('b', (('c', True),)))")
         read = read_program("node bad(c: bool, x: bool) -> (y: bool)\ny = x when c\nend\nmain bad")
         self.assertEqual(clash_of(read), ("bad", ("y", (0, ()), (0, (0,)))))
+
+    def test_meaning(self):
+        text = "node count(tick: bool) -> (n: mod 4)\nn = (0:4 fby n) + (if tick then 1:4 else 0:4)\nend\nmain count"
+        self.assertEqual(repr(run(read_program(text), ((True,), (False,), (True,)))), "(((1,), (1,), (2,)), None)")
+
+    def test_causality(self):
+        read = read_program("node f(x: bool) -> (y: bool)\nvar a: bool, b: bool\na = b and x\nb = a or y\ny = false fby a\n"
+                            "end\nmain f")
+        self.assertEqual(repr(needs(read, "f")), "(('y', ()), ('a', ('b', 'x')), ('b', ('a', 'y')))")
+        self.assertEqual(repr(first_ring(read, "f")), "('a', 'b')")

@@ -134,6 +134,18 @@ class RulesTest(unittest.TestCase):
         for line in ("k = xs.intersection(k)", "k = k.rsplitx()", "k = xs.split(sep=k)"):
             self.assertIn("L25", self.body(line), line)
         self.assertIn("L26", self.body("xs.items = k"))
+        for name, rule in (("sort", "L26"), ("encode", "L26"), ("union", "L26"), ("add", "L24"), ("discard", "L24")):
+            text = f"class A:\n    def {name}(self):\n        return 1\n"
+            self.assertIn(rule, self.rules(text))
+        text = "class A:\n    def told(self):\n        return {}\n"
+        for value in ("self.told", "[self.told]", "len(self.told)", "sorted([1], key=len, reverse=self.told)"):
+            self.assertIn("L25", self.rules(text.format(value)), value)
+        for value in ("self.told()", "sorted([self], key=self.told)"):
+            self.assertEqual(self.rules(text.format(value)), set(), value)
+        for value in ("f(*xs[1:], 1)", "f(*[1], k)", "f(*xs, k + 1)", "f(*xs, f(k))"):
+            self.assertIn("L7", self.body(f"k = {value}"), value)
+        for value in ("f(*xs, k)", "f(k + 1, *xs)", "f(*k.rows)"):
+            self.assertEqual(self.body(f"k = {value}"), set(), value)
         for line in ("k = '5 % 3'", "k = '__odd__'", "k = '\\x41'", "k = 2 ** k", "k = 'a._'"):
             self.assertIn("L27", self.body(line), line)
         self.assertIn("L28", self.rules("class A:\n    def __init__(self):\n        return None\n"))
