@@ -10,9 +10,11 @@ import unittest
 import everytick
 from everytick.causality import BadRing, at_once, first_ring, needs, ring_of
 from everytick.clocks import BadClock, clash_of, clocks_of, place_clocks
+from everytick.direct import active_states, run_direct
 from everytick.errors import TickError
 from everytick.kinds import fault_of, fits, interface_of, kind_of, kinds_in
 from everytick.meaning import beginning, instant, run, trace
+from everytick.normal import cell_count, normalized
 from everytick.places import expression_at, linked, places_of
 from everytick.printing import print_expression, print_program
 from everytick.program_texts import read_program
@@ -20,7 +22,9 @@ from everytick.programs import is_program, node_named, parts_of, variables_in
 from everytick.reading import read_expression
 from everytick.reaching import reaches
 from everytick.schedules import first_schedule, rounds, swaps
+from everytick.sharing import alike, shared
 from everytick.states import translated
+from everytick.steps import first_memory, is_step_machine, run_steps, size_of, step
 from everytick.uses import equations_of, needed, renamed, uses, without_unused
 from tests.fitting import Fitting
 from tests.righting import Righting
@@ -47,6 +51,11 @@ INTERFACE = {
                   "swaps(one, other)"),
     "reaching": ("reaches(program, name)",),
     "states": ("has_blocks(program)", "are_blocks(program)", "translated(program)"),
+    "direct": ("run_direct(program, rows)", "active_states(program, rows)"),
+    "normal": ("is_plain(expression)", "is_normal(program)", "normalized(program)", "cell_count(program)"),
+    "sharing": ("alike(program, name)", "shared(program)"),
+    "steps": ("is_step_machine(value)", "first_memory(machine)", "step(machine, memory, row)",
+              "run_steps(machine, rows)", "size_of(machine)"),
 }
 
 
@@ -124,11 +133,21 @@ class ArgumentsTest(unittest.TestCase):
         order = first_schedule(value, name)
         found = [beginning(value), instant(value, beginning(value), rows[0]), run(value, rows), trace(value, rows),
                  needs(value, name), at_once(("var", "x")), order, rounds(value, name), swaps(order, order),
-                 reaches(value, name), translated(Righting(4, blocks=1.0).program(2))]
+                 reaches(value, name), translated(Righting(4, blocks=1.0).program(2)), normalized(value),
+                 shared(value), alike(value, name), run_direct(value, rows), active_states(value, rows)]
         for row in found:
             self.assert_of_tuples(row)
         self.assertIsNone(first_ring(value, name))
         self.assertIsNone(ring_of(value))
+        self.assertIs(type(cell_count(value)), int)
+
+    def test_step_machines_give_tuples(self):
+        machine = (("m", ("x",), ("y",), (1,), (), (("set", "y", ("cell", 0)), ("store", 0, ("var", "x")))),)
+        memory = first_memory(machine)
+        for row in (memory, step(machine, memory, (2,)), run_steps(machine, ((2,), (3,)))):
+            self.assert_of_tuples(row)
+        self.assertIs(is_step_machine(machine), True)
+        self.assertIs(type(size_of(machine)), int)
 
     def assert_of_tuples(self, value):
         self.assertIn(type(value), (tuple, str, int, bool, type(None)))
@@ -166,3 +185,9 @@ class ExamplesTest(unittest.TestCase):
                             "end\nmain f")
         self.assertEqual(repr(needs(read, "f")), "(('y', ()), ('a', ('b', 'x')), ('b', ('a', 'y')))")
         self.assertEqual(repr(first_ring(read, "f")), "('a', 'b')")
+
+    def test_the_normal_form(self):
+        read = read_program("node f(x: mod 8) -> (y: mod 8)\ny = (0:8 fby x + y) - (1:8 -> x)\nend\nmain f")
+        self.assertEqual(print_program(normalized(read)).split("\n")[1:6], [
+            "var t0: mod 8, t1: mod 8, t2: bool", "t0 = x + y", "t1 = pre t0", "t2 = true fby false",
+            "y = (if t2 then 0:8 else t1) - (if t2 then 1:8 else x)"])
