@@ -86,7 +86,7 @@ def shared(program):
 
 
 def _chosen(node, numbers):
-    """Return a dict from the variables of a node to the chosen ones that are alike."""
+    """Return a dict from the variables of a node to the chosen ones that are alike: no copy is ever chosen."""
     leaders = {}
     for x, _ in node[1]:
         leaders[numbers[x]] = x
@@ -101,9 +101,8 @@ def _shared_node(program, node):
     chosen = _chosen(node, _numbers(program, node[0]))
     outputs = [x for x, _ in node[2]]
     body = []
-    for equation in node[4]:
-        names, right = equation
-        if not _is_copy(equation) and chosen[names[0]] == names[0]:
+    for names, right in node[4]:
+        if chosen[names[0]] == names[0]:
             body.append((names, renamed_right(chosen, right)))
         else:
             body.extend([((x,), ("var", chosen[x])) for x in names if x in outputs])

@@ -4,7 +4,7 @@ from everytick.causality import at_once
 from everytick.definitions import defined_in
 from everytick.fresh import Names
 from everytick.kinds import MEMORIES
-from everytick.programs import are_different, has_word, is_block, variables_in
+from everytick.programs import has_word, is_block, variables_in
 from everytick.translation import Translation
 from everytick.uses import blocks_of, expressions_in
 
@@ -40,9 +40,9 @@ def _keeps_rules(node, k):
 
 
 def _defines_once(state, names):
-    """Tell whether the equations of a state define these variables, each of them once."""
+    """Tell whether the equations of a state define these variables, given in order, each of them once."""
     left = [x for row, _ in state[1] for x in row]
-    return are_different(left) and sorted(left) == names
+    return sorted(left) == names
 
 
 def _defined_outside(node, k):

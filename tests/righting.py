@@ -6,17 +6,10 @@ groups before, so that there are no rings; parts of memories may have any variab
 
 import random
 
+from tests.fitting import values
 from tests.samples import SORTS
 
 KINDS = ("bool", "bool", ("mod", 2), ("mod", 3), ("mod", 5), ("sort", "Color"), ("sort", "Red"))
-
-
-def values(kind):
-    if kind == "bool":
-        return (False, True)
-    if kind[0] == "mod":
-        return tuple(range(kind[1]))
-    return dict(SORTS)[kind[1]]
 
 
 class Righting:
