@@ -98,12 +98,9 @@ class Body:
             return len(value) == 3 and _is_variable(value[1]) and self.is_selection(value[2])
         if word not in PLAIN_PARTS or word in MEMORIES:
             return False
-        parts = value[1:]
         if word in NUMBERS:
-            parts = value[2:]
-            if not is_whole(value[1], 2, MAX_MOD):
-                return False
-        return len(parts) == PLAIN_PARTS[word] and all(self.is_tree(part) for part in parts)
+            return len(value) == 4 and is_whole(value[1], 2, MAX_MOD) and all(self.is_tree(part) for part in value[2:])
+        return len(value) == PLAIN_PARTS[word] + 1 and all(self.is_tree(part) for part in value[1:])
 
     def is_selection(self, value):
         """Tell whether any value may stand as the branches of a select."""
