@@ -79,6 +79,20 @@ def interface_of(program, name):
     return (tuple([kind for _, kind in node[1]]), tuple([kind for _, kind in node[2]]))
 
 
+def have_same_interface(one, other):
+    """Tell whether the main nodes of two programs have the same kinds, where sorts are told by their constructors."""
+    return _unnamed_interface(one) == _unnamed_interface(other)
+
+
+def _unnamed_interface(program):
+    return [[_unnamed(program[0], kind) for kind in row] for row in interface_of(program, program[2])]
+
+
+def _unnamed(sorts, kind):
+    """Return a kind, where the name of a sort is exchanged for its constructors."""
+    return ("sort", values_of(sorts, kind)) if kind[0] == "sort" else kind
+
+
 def fits(program):
     """Tell whether a program has no fault."""
     return fault_of(program) is None

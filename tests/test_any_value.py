@@ -44,6 +44,13 @@ def cut_short(value):
     yield list(value)
 
 
+def is_any_value(value):
+    """Whether a value is made of what [0.4] says; the others need not be answered, but most functions do so."""
+    if isinstance(value, tuple):
+        return all(is_any_value(part) for part in value)
+    return value is None or isinstance(value, (bool, int, str))
+
+
 def spoilt(value):
     """A value with each part of it exchanged for each of many others, one after another."""
     for path in paths(value):
@@ -53,6 +60,11 @@ def spoilt(value):
             others += list(cut_short(part))
         for other in others:
             yield replaced(value, path, other)
+
+
+def spoilt_plainly(value):
+    """Those of the spoilt values that are any values in the words of [0.4]."""
+    return [other for other in spoilt(value) if is_any_value(other)]
 
 
 class AnyValueTest(unittest.TestCase):

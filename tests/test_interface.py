@@ -11,8 +11,13 @@ import everytick
 from everytick.causality import BadRing, at_once, first_ring, needs, ring_of
 from everytick.clocks import BadClock, clash_of, clocks_of, place_clocks
 from everytick.direct import active_states, run_direct
+from everytick.equality import compared, same_programs
 from everytick.errors import TickError
+from everytick.joining import dropped, joined
 from everytick.kinds import fault_of, fits, interface_of, kind_of, kinds_in
+from everytick.least import classes, least_machine
+from everytick.machines import first_fault, input_rows, is_machine, machine_of, run_machine
+from everytick.making import finished, made
 from everytick.meaning import beginning, instant, run, trace
 from everytick.normal import cell_count, normalized
 from everytick.places import expression_at, linked, places_of
@@ -56,6 +61,12 @@ INTERFACE = {
     "sharing": ("alike(program, name)", "shared(program)"),
     "steps": ("is_step_machine(value)", "first_memory(machine)", "step(machine, memory, row)",
               "run_steps(machine, rows)", "size_of(machine)"),
+    "making": ("made(program)", "finished(program)"),
+    "joining": ("joined(machine, kinds)", "dropped(machine)"),
+    "machines": ("input_rows(program)", "machine_of(program, limit)", "is_machine(value)",
+                 "run_machine(machine, indexes)", "first_fault(machine)"),
+    "least": ("classes(machine)", "least_machine(machine)"),
+    "equality": ("compared(one, other)", "same_programs(one, other, limit)"),
 }
 
 
@@ -149,6 +160,20 @@ class ArgumentsTest(unittest.TestCase):
         self.assertIs(is_step_machine(machine), True)
         self.assertIs(type(size_of(machine)), int)
 
+    def test_machines_give_tuples(self):
+        value = read_program("node f(x: bool) -> (y: bool)\nvar z: bool\ny = false fby x\nz = pre x\nend\nmain f")
+        kinds = {"f": {x: (False, True) for x in ("x", "y", "z", "t0", "t1")}}
+        before = copy.deepcopy(kinds)
+        machine = machine_of(value, 10)
+        found = [made(normalized(value)), finished(value), joined(made(normalized(value)), kinds), dropped(made(normalized(value))),
+                 input_rows(value), machine, run_machine(machine, (0, 1)), classes(machine), least_machine(machine),
+                 compared(machine, machine), same_programs(value, value, 10)]
+        for row in found:
+            self.assert_of_tuples(row)
+        self.assertEqual(kinds, before)
+        self.assertIsNone(first_fault(machine))
+        self.assertIs(is_machine(machine), True)
+
     def assert_of_tuples(self, value):
         self.assertIn(type(value), (tuple, str, int, bool, type(None)))
         for part in value if isinstance(value, tuple) else ():
@@ -191,3 +216,13 @@ class ExamplesTest(unittest.TestCase):
         self.assertEqual(print_program(normalized(read)).split("\n")[1:6], [
             "var t0: mod 8, t1: mod 8, t2: bool", "t0 = x + y", "t1 = pre t0", "t2 = true fby false",
             "y = (if t2 then 0:8 else t1) - (if t2 then 1:8 else x)"])
+
+    def test_finished_machines(self):
+        late = finished(read_program("node late(x: bool) -> (y: bool)\ny = false fby x\nend\nmain late"))
+        self.assertEqual(repr((size_of(late), run_steps(late, ((True,), (False,))))), "(2, ((False,), (True,)))")
+
+    def test_machines(self):
+        text = "node late(x: bool) -> (y: bool)\ny = false fby x\nend\nmain late"
+        self.assertEqual(
+            repr(machine_of(read_program(text), 10)),
+            "(((False,), (True,)), ((((False,), 1), ((False,), 2)), (((False,), 1), ((False,), 2)), (((True,), 1), ((True,), 2))))")
