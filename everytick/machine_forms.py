@@ -29,6 +29,23 @@ def _is_class(earlier, value):
     return Body(len(cells), sizes).are_statements(body)
 
 
+def is_memory(machine, value):
+    """Tell whether any value may be a memory of a step machine, whether its steps can lead to it or not."""
+    return _is_memory_of(machine, len(machine) - 1, value)
+
+
+def _is_memory_of(machine, at, value):
+    _, _, _, cells, parts, _ = machine[at]
+    if not is_tuple(value, 2, 2):
+        return False
+    held, inner = value
+    if not is_tuple(held, len(cells), len(cells)) or not is_tuple(inner, len(parts), len(parts)):
+        return False
+    if not all(cell is None or _is_constant(cell) for cell in held):
+        return False
+    return all([_is_memory_of(machine, part, memory) for part, memory in zip(parts, inner)])
+
+
 def _are_variables(value):
     return isinstance(value, tuple) and all(_is_variable(part) for part in value)
 

@@ -1,9 +1,8 @@
 """The meaning of programs: instants, runs and traces ([4.1] to [4.8])."""
 
 from everytick.instances import instant_of, main_plan, moments_of, run_of
-from everytick.lowering import Lowering
 from everytick.programs import is_tuple, is_value, node_named
-from everytick.uses import expressions_in, needed
+from everytick.state_forms import StateForms
 
 
 def beginning(program):
@@ -21,46 +20,7 @@ def is_row(program, value):
 
 def is_state(program, value):
     """Tell whether any value is a state of main by its form."""
-    forms = {}
-    for name in needed(program):
-        node = node_named(program, name)
-        forms[name] = (_memories_of(program, node), _callees_of(node))
-    return _is_state_of(program[0], forms, program[2], value)
-
-
-def _memories_of(program, node):
-    """Return the list of the kinds of what the memories of a node hold, None for an arrow."""
-    lowering = Lowering(program, node)
-    for _, right in node[4]:
-        for expression in expressions_in(right):
-            lowering.tree_of(expression)
-    return lowering.memories
-
-
-def _callees_of(node):
-    """Return the list of the names of the nodes that a node calls, call by call."""
-    return [right[1] for _, right in node[4] if right[0] == "call"]
-
-
-def _is_state_of(sorts, forms, name, value):
-    kinds, callees = forms[name]
-    if not is_tuple(value, 2, 2):
-        return False
-    cells, calls = value
-    if not is_tuple(cells, len(kinds), len(kinds)) or not is_tuple(calls, len(callees), len(callees)):
-        return False
-    if not all([_may_hold(sorts, kind, cell) for kind, cell in zip(kinds, cells)]):
-        return False
-    return all([_is_state_of(sorts, forms, callee, state) for callee, state in zip(callees, calls)])
-
-
-def _may_hold(sorts, kind, value):
-    """Tell whether a memory for values of a kind, or for None alone, may hold any value."""
-    if not is_tuple(value, 0, 1):
-        return False
-    if value == () or value == (None,):
-        return True
-    return kind is not None and is_value(sorts, kind, value[0])
+    return StateForms(program).is_state(value)
 
 
 def instant(program, state, row):

@@ -9,14 +9,17 @@ import unittest
 
 import everytick
 from everytick.causality import BadRing, at_once, first_ring, needs, ring_of
+from everytick.checker import check
+from everytick.claims import observed, verdict
 from everytick.clocks import BadClock, clash_of, clocks_of, place_clocks
 from everytick.direct import active_states, run_direct
 from everytick.equality import compared, same_programs
 from everytick.errors import TickError
+from everytick.induction import MAX_ALL, all_states
 from everytick.joining import dropped, joined
 from everytick.kinds import fault_of, fits, interface_of, kind_of, kinds_in
 from everytick.least import classes, least_machine
-from everytick.machines import first_fault, input_rows, is_machine, machine_of, run_machine
+from everytick.machines import MAX_ROWS, first_fault, input_rows, is_machine, machine_of, run_machine
 from everytick.making import finished, made
 from everytick.meaning import beginning, instant, run, trace
 from everytick.normal import cell_count, normalized
@@ -26,7 +29,9 @@ from everytick.program_texts import read_program
 from everytick.programs import is_program, node_named, parts_of, variables_in
 from everytick.reading import read_expression
 from everytick.reaching import reaches
+from everytick.rows import read_row, read_rows
 from everytick.schedules import first_schedule, rounds, swaps
+from everytick.sessions import Session
 from everytick.sharing import alike, shared
 from everytick.states import translated
 from everytick.steps import first_memory, is_step_machine, run_steps, size_of, step
@@ -67,7 +72,16 @@ INTERFACE = {
                  "run_machine(machine, indexes)", "first_fault(machine)"),
     "least": ("classes(machine)", "least_machine(machine)"),
     "equality": ("compared(one, other)", "same_programs(one, other, limit)"),
+    "claims": ("is_claim(program, value)", "observed(program, claim)", "verdict(program, claim, limit)",
+               "is_closed(program, claim, value)", "is_break(program, claim, value)"),
+    "induction": ("all_states(program)", "is_inductive(program, claim, k)", "least_induction(program, claim, bound)"),
+    "checker": ("is_sound(statement)", "check(statement, certificate)"),
+    "rows": ("print_value(value)", "print_row(row)", "print_rows(rows)", "read_row(sorts, kinds, text)",
+             "read_rows(sorts, kinds, text)"),
+    "sessions": ("state_of(program)", "Session(program)"),
 }
+
+METHODS = {"Session": ("enter(self, line)", "current(self)", "plain(self)", "journal(self)")}
 
 
 class InterfaceTest(unittest.TestCase):
@@ -88,6 +102,31 @@ class InterfaceTest(unittest.TestCase):
             defined = [row.name for row in tree.body if isinstance(row, (ast.FunctionDef, ast.ClassDef))]
             for text in names:
                 self.assertIn(text.split("(")[0], defined)
+
+    def test_methods(self):
+        for name, texts in METHODS.items():
+            found = vars(getattr(importlib.import_module("everytick.sessions"), name))
+            for text in texts:
+                method = text.split("(")[0]
+                self.assertIn(method, found)
+                self.assertEqual(method + str(inspect.signature(found[method])), text)
+
+    def test_constants(self):
+        self.assertEqual((MAX_ALL, MAX_ROWS), (4096, 256))
+
+    def test_the_checker_does_not_use_what_it_checks(self):
+        """Part 11: it uses the parts 1 to 5, and the steps of machines, but nothing that looks for certificates."""
+        found, rest = set(), ["checker"]
+        while rest:
+            file = rest.pop()
+            with open(os.path.join(os.path.dirname(os.path.abspath(everytick.__file__)), file + ".py"), encoding="utf-8") as source:
+                tree = ast.parse(source.read())
+            modules = [row.module for row in tree.body if isinstance(row, ast.ImportFrom)]
+            names = {module.split(".")[1] for module in modules if module.startswith("everytick.")}
+            rest += sorted(names - found)
+            found |= names
+        self.assertFalse(found & {"states", "translation", "direct", "normal", "sharing", "making", "joining", "reads", "machines", "least",
+                                  "equality", "claims", "induction", "walks", "sessions", "questions", "edits"})
 
     def test_errors(self):
         for name in INTERFACE["errors"]:
@@ -174,6 +213,21 @@ class ArgumentsTest(unittest.TestCase):
         self.assertIsNone(first_fault(machine))
         self.assertIs(is_machine(machine), True)
 
+    def test_claims_and_rows_give_tuples(self):
+        late = read_program("node late(x: bool) -> (y: bool)\ny = false fby x\nend\nmain late")
+        never = ("never", (("x", "bool"), ("y", "bool")), (("ok", "bool"),), (), ((("ok",), ("not", ("var", "y"))),))
+        for row in (observed(late, never), verdict(late, never, 10), read_row((), ("bool",), "true"), read_rows((), ("bool",), "true ; true")):
+            self.assert_of_tuples(row)
+        first = all_states(late)
+        kept = copy.deepcopy(first)
+        first.clear()
+        self.assertEqual(all_states(late), kept)
+        session = Session(late)
+        self.assert_of_tuples(session.current())
+        self.assert_of_tuples(session.plain())
+        self.assertIsInstance(session.journal(), list)
+        self.assertIsInstance(session.enter("text"), list)
+
     def assert_of_tuples(self, value):
         self.assertIn(type(value), (tuple, str, int, bool, type(None)))
         for part in value if isinstance(value, tuple) else ():
@@ -226,3 +280,17 @@ class ExamplesTest(unittest.TestCase):
         self.assertEqual(
             repr(machine_of(read_program(text), 10)),
             "(((False,), (True,)), ((((False,), 1), ((False,), 2)), (((False,), 1), ((False,), 2)), (((True,), 1), ((True,), 2))))")
+
+    def test_claims(self):
+        late = read_program("node late(x: bool) -> (y: bool)\ny = false fby x\nend\nmain late")
+        never = ("never", (("x", "bool"), ("y", "bool")), (("ok", "bool"),), (), ((("ok",), ("not", ("var", "y"))),))
+        self.assertEqual(repr(verdict(late, never, 10)), "('broken', ((True,), (False,)))")
+
+    def test_the_checker(self):
+        late = read_program("node late(x: bool) -> (y: bool)\ny = false fby x\nend\nmain late")
+        self.assertEqual((check(("order", late, "late"), (0,)), check(("ring", late, "late"), ("y",))), (True, False))
+
+    def test_sessions(self):
+        session = Session(read_program("node late(x: bool) -> (y: bool)\ny = false fby x\nend\nmain late"))
+        self.assertEqual(session.enter("run true ; false ; false"), ["false", "true", "false"])
+        self.assertEqual(session.enter("put node never(x: bool) -> (y: bool);y = y and x;end"), ["ring never y"])
