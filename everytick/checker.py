@@ -17,8 +17,8 @@ def is_sound(statement):
     """Tell whether any value is a statement that is sound in form."""
     if not is_tuple(statement, 2, 3) or not isinstance(statement[0], str) or statement[0] not in FORMS:
         return False
-    form, many = FORMS[statement[0]]
-    return len(statement) == many and form(statement)
+    action = FORMS[statement[0]]
+    return len(statement) == LENGTHS.get(statement[0], 3) and action(statement)
 
 
 def check(statement, certificate):
@@ -113,14 +113,13 @@ def _check_way_out(statement, value):
     return is_way_out_of(system, program, value)
 
 
-# For each word what makes a statement sound in form, and how many parts it has together with the word.
+# How many parts a statement has together with its word, if not three.
+LENGTHS = {"sound": 2, "fault": 2}
+
 FORMS = {
-    "clocked": (_is_about_clocks, 3), "clash": (_is_about_clocks, 3),
-    "order": (_is_about_needs, 3), "ring": (_is_about_needs, 3),
-    "sound": (_is_about_runs, 2), "fault": (_is_about_runs, 2),
-    "holds": (_is_about_claim, 3), "breaks": (_is_about_claim, 3),
-    "same": (_is_about_two, 3), "apart": (_is_about_two, 3),
-    "carries": (_is_about_machine, 3), "strays": (_is_about_machine, 3),
+    "clocked": _is_about_clocks, "clash": _is_about_clocks, "order": _is_about_needs, "ring": _is_about_needs,
+    "sound": _is_about_runs, "fault": _is_about_runs, "holds": _is_about_claim, "breaks": _is_about_claim,
+    "same": _is_about_two, "apart": _is_about_two, "carries": _is_about_machine, "strays": _is_about_machine,
 }
 
 CHECKS = {

@@ -1,4 +1,4 @@
-"""Edits of the program of a session, and the nodes in their texts ([12.3])."""
+"""Edits of the program of a session, and the nodes in texts of sessions ([12.3])."""
 
 from everytick.errors import BadText, TickError
 from everytick.lines import Lines
@@ -90,3 +90,14 @@ def choose_main(program, name):
     if node_named(program, name) is None:
         raise Refused("none")
     return (*program[:2], name)
+
+
+EDITS = {"put": put, "drop": drop, "main": choose_main}
+
+
+def edited(word, program, rest):
+    """Return what an edit makes of a program, given by its first word and what stands behind it and a space."""
+    if rest is None or rest == "" or (word != "put" and " " in rest):
+        raise Refused("bad")
+    action = EDITS[word]
+    return action(program, rest)

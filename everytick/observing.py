@@ -2,17 +2,16 @@
 
 from everytick.causality import is_right
 from everytick.fresh import Names
-from everytick.kinds import interface_of
 from everytick.programs import is_node, is_program, node_named
-from everytick.uses import blocks_of
 
 
 def is_claim_about(program, value):
-    """Tell whether any value is a claim about a program."""
-    if not is_node(program[0], value) or blocks_of(value) or node_named(program, value[0]) is not None:
-        return False
-    inputs, outputs = interface_of(program, program[2])
-    if [kind for _, kind in value[1]] != [*inputs, *outputs] or [kind for _, kind in value[2]] != ["bool"]:
+    """Tell whether any value is a claim about a program.
+
+    If it is a node, the rest shows in the observed program: that its name is new and it has no state machines, and,
+    as it is called there, that it has the right inputs and one output of kind bool.
+    """
+    if not is_node(program[0], value):
         return False
     whole = observed_program(program, value)
     return is_program(whole) and is_right(whole)

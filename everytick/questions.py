@@ -77,7 +77,8 @@ def _sound(program, plain, rest):
     found = first_fault(machine)
     if found is None:
         return ["sound"]
-    return [f"fault {print_rows([machine[0][r] for r in found])}"]
+    rows = print_rows([machine[0][r] for r in found])
+    return [f"fault {rows}"]
 
 
 def _same(program, plain, rest):

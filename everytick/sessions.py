@@ -2,15 +2,12 @@
 
 from everytick.causality import ring_of
 from everytick.clocks import clash_of
-from everytick.edits import Refused, choose_main, drop, put
+from everytick.edits import EDITS, Refused, edited
 from everytick.errors import NotAllowed, TooMany
 from everytick.kinds import fault_of
 from everytick.programs import is_program
 from everytick.questions import answered
 from everytick.states import are_blocks, translated
-
-EDITS = {"put": put, "drop": drop, "main": choose_main}
-
 
 def state_of(program):
     """Return ok if a program is good, otherwise the text that tells the first thing that is not as it should be."""
@@ -73,10 +70,7 @@ class Session:
 
     def edit(self, line, word, rest):
         """Change the program as a line says; raise Refused if it does not stay good."""
-        if rest is None or rest == "" or (word != "put" and " " in rest):
-            raise Refused("bad")
-        action = EDITS[word]
-        program = action(self.program, rest)
+        program = edited(word, self.program, rest)
         if not is_program(program):
             raise Refused("form")
         told = state_of(program)

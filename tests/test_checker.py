@@ -104,6 +104,16 @@ class ClocksTest(CheckTest):
         for clock in ((("c", 1),), (("c", 0),), (("d", T),), (("c",),), ("c", T), (("c", T, T),), (("c", None),), ((("c",), T),), ((T, "c"),)):
             self.bad(statement, tuple(clock if place in ("a", (0, ())) else () for place in places))
 
+    def test_inputs_and_outputs_are_on_the_base_clock(self):
+        value = read("node f(x: bool) -> (y: bool)", "y = x", "end", "main f")
+        self.good(("clocked", value, "f"), ((),) * 3)
+        for clock in ((("x", T),), (("y", F), ("x", T))):
+            self.bad(("clocked", value, "f"), (clock,) * 3)
+        value = read("node f(x: bool) -> (y: bool)", "y = true", "end", "main f")
+        for clock in ((("x", T),), (("y", F),)):
+            self.bad(("clocked", value, "f"), ((), clock, clock))
+            self.bad(("clocked", value, "f"), (clock, (), ()))
+
     def test_a_node_of_several(self):
         value = read("node g(c: bool, x: bool) -> (y: bool)", "var a: bool", "a = x when c", "y = c", "end",
                      "node f(x: bool) -> (y: bool)", "y = g(x, x)", "end", "main f")
@@ -228,6 +238,28 @@ class RunsTest(CheckTest):
         self.assertEqual(len(states), 2)
         self.good(("sound", value), states + ((((2,),), ()), (((None,),), ())))
         self.bad(("sound", value), states + ((((3,),), ()),), states + ((((T,),), ()),), states + ((((0,),), ()),))
+
+    def test_states_and_memories_that_are_none(self):
+        """They would lead on to themselves for ever, but have not the form of states."""
+        value = read("node f(n: mod 2) -> (m: mod 2)", "var k: mod 2", "k = 0:2 fby k", "m = n", "end", "main f")
+        machine = (("m", ("n",), ("m",), (0,), (), (("set", "m", ("var", "n")), ("store", 0, ("cell", 0)))),)
+        (start, memory), settled = Rules("carries", value, machine).start, (((0,),), ())
+        wrong = [(((held,),), ()) for held in ("A", T, 2, ((),))] + [((("A",), ()), ()), (((0,),), ((),)), start + ((),)]
+        for word, rest, own in (("sound", (), lambda state: state), ("same", (value,), lambda state: (state, settled)),
+                                ("same", (value,), lambda state: (settled, state)), ("carries", (machine,), lambda state: (state, memory))):
+            statement = (word, value) + rest
+            found = Rules(word, value, *rest).found()[1]
+            self.good(statement, found + (own((((1,),), ())),))
+            self.good(statement, found + (own((((None,),), ())),))
+            for state in wrong:
+                self.bad(statement, found + (own(state),))
+        found = Rules("carries", value, machine).found()[1]
+        self.good(("carries", value, machine), found + ((settled, ((5,), ())),))
+        for other in (((5, 5), ()), ((), ()), ((5,), ((),)), ((5,),), ((5,), (), ()), (((),), ()), (((5,),), ()), 5):
+            self.bad(("carries", value, machine), found + ((settled, other),))
+        self.bad(("carries", value, machine), found + ((settled, memory, memory),), found + ((settled,),))
+        found = Rules("same", value, value).found()[1]
+        self.bad(("same", value, value), found + ((settled, settled, settled),), found + ((settled,),))
 
     def test_holds_and_breaks(self):
         for claim in (late_claim("ok = y = (false fby x)"), NEVER, late_claim("ok = if x then true else pre x"), late_claim("ok = x -> false")):

@@ -160,6 +160,17 @@ class DroppedTest(unittest.TestCase):
         self.assertEqual(repr(found[0][3]), repr((T, F)))
         self.assertEqual(found[0][5], (("set", "y", ("or", cell(0), cell(1))), ("store", 0, cell(1)), ("store", 1, var("x"))))
 
+    def test_numbers_move_up_everywhere(self):
+        inner = ("inner", ("p",), ("q",), (), (), (("set", "q", var("p")),))
+        rows = (("call", ("a",), 0, (cell(0),), None),
+                ("case", "x", ((T, (("call", ("y",), 1, (("add", 3, cell(2), cell(1)),), ("not", cell(2))),)),
+                               (F, (("call", ("y",), 2, (("select", "n", ((1, cell(1)),)),), cell(1)), ("store", 2, cell(1)))))))
+        found = self.dropped(*rows, cells=(7, 8, 9), parts=(0, 0, 0), before=(inner,))
+        self.assertEqual(found[1][3:5], ((8, 9), (0, 0)))
+        self.assertEqual(found[1][5], (
+            ("case", "x", ((T, (("call", ("y",), 0, (("add", 3, cell(1), cell(0)),), ("not", cell(1))),)),
+                           (F, (("call", ("y",), 1, (("select", "n", ((1, cell(0)),)),), cell(0)), ("store", 1, cell(0)))))),))
+
     def test_a_cell_that_only_its_store_reads_stays(self):
         found = self.dropped(("store", 0, ("not", cell(0))), cells=(T,))
         self.assertEqual(found[0][3:], ((T,), (), (("store", 0, ("not", cell(0))),)))
