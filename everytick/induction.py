@@ -13,9 +13,9 @@ MAX_ALL = 4096
 def all_states(program):
     """Return the list of all states of a program, reached or not; raise TooMany if there are more than MAX_ALL."""
     forms = StateForms(program)
-    if forms.number_of_states(forms.main) > MAX_ALL:
+    if forms.number_of_states(MAX_ALL) > MAX_ALL:
         raise TooMany("there are too many states")
-    return forms.states_of(forms.main)
+    return forms.all_states()
 
 
 def is_inductive(program, claim, k):

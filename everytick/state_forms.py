@@ -9,8 +9,8 @@ from everytick.uses import expressions_in, needed
 class StateForms:
     """The forms of the states of the instances of main and of the nodes that it needs.
 
-    For each node, kinds has the list of the kinds of what its memories hold, None for an arrow, and callees the
-    list of the names of the nodes that it calls, call by call.
+    For each node, those that it calls first, kinds has the list of the kinds of what its memories hold, None for an
+    arrow, and callees the list of the names of the nodes that it calls, call by call.
     """
 
     def __init__(self, program):
@@ -54,20 +54,27 @@ class StateForms:
             return [(), (None,)]
         return [(), (None,), *[(value,) for value in values_of(self.sorts, kind)]]
 
-    def number_of_states(self, name):
-        """Return the number of the states of a node."""
-        many = count_of([self.holdings(kind) for kind in self.kinds[name]])
-        for callee in self.callees[name]:
-            many = many * self.number_of_states(callee)
-        return many
+    def number_of_states(self, most):
+        """Return the number of the states of main, or most + 1 if there are more than most."""
+        found = {}
+        for name in self.kinds:
+            found[name] = 1
+            factors = [len(self.holdings(kind)) for kind in self.kinds[name]]
+            factors.extend([found[callee] for callee in self.callees[name]])
+            for many in factors:
+                found[name] = min(found[name] * many, most + 1)
+        return found[self.main]
 
-    def states_of(self, name):
-        """Return the list of all states of a node."""
-        choices = [self.holdings(kind) for kind in self.kinds[name]]
-        many = len(choices)
-        choices.extend([self.states_of(callee) for callee in self.callees[name]])
-        rows = [choice_at(choices, k) for k in range(count_of(choices))]
-        return [(row[:many], row[many:]) for row in rows]
+    def all_states(self):
+        """Return the list of all states of main."""
+        found = {}
+        for name in self.kinds:
+            choices = [self.holdings(kind) for kind in self.kinds[name]]
+            many = len(choices)
+            choices.extend([found[callee] for callee in self.callees[name]])
+            rows = [choice_at(choices, k) for k in range(count_of(choices))]
+            found[name] = [(row[:many], row[many:]) for row in rows]
+        return found[self.main]
 
 
 def _memories_of(program, node):

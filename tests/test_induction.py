@@ -83,6 +83,12 @@ class AllStatesTest(unittest.TestCase):
         self.assertEqual(len(self.states(*nodes, "main f1")), 4096)
         with self.assertRaises(TooMany):
             all_states(read(*nodes, "main f9"))
+        nodes = ["node f0(x: bool) -> (y: bool)", "y = pre x", "end"]
+        for k in range(1, 12):
+            inner = ", ".join(f"a{n}: bool" for n in range(20))
+            nodes += [f"node f{k}(x: bool) -> (y: bool)", f"var {inner}", *[f"a{n} = f{k - 1}(x)" for n in range(20)], "y = x", "end"]
+        with self.assertRaises(TooMany):
+            all_states(read(*nodes, "main f11"))
 
 
 class InductionTest(unittest.TestCase):
