@@ -38,7 +38,7 @@ def _agree(clocks, place, other, link):
 
 def is_clash(program, name, value):
     """Tell whether any value is a chain of a node that is a clash."""
-    keys = {key_of(place) for place in places_of(program, name)}
+    keys = {key_of(place): True for place in places_of(program, name)}
     if not isinstance(value, tuple) or len(value) < 2 or not all([key_of(place) in keys for place in value]):
         return False
     links = [linked(program, name, place, other) for place, other in zip(value, value[1:])]

@@ -39,10 +39,10 @@ def _one_of_two(one, other, values):
     """Return the case that does what two cases of the same variable do, one behind the other."""
     x = one[1]
     bodies = {marked(v): [] for v in values.get(x, ())}
-    given = set()
+    given = {}
     for v, inner in (*one[2], *other[2]):
         bodies.setdefault(marked(v), []).extend(inner)
-        given.add(marked(v))
+        given[marked(v)] = True
     branches = [(key[1], _joined_body(bodies[key], values)) for key in bodies if key in given]
     return ("case", x, tuple(branches))
 
