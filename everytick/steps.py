@@ -24,7 +24,7 @@ def _beginnings(machine):
 
 def step(machine, memory, row):
     """Return the pair of the outputs and the memory behind a step of the main class."""
-    return _step_of(machine, _beginnings(machine), len(machine) - 1, memory, row)
+    return _step_of(machine, _beginnings(machine), memory, row)
 
 
 def run_steps(machine, rows):
@@ -33,44 +33,59 @@ def run_steps(machine, rows):
     memory = beginnings[-1]
     found = []
     for row in rows:
-        outputs, memory = _step_of(machine, beginnings, len(machine) - 1, memory, row)
+        outputs, memory = _step_of(machine, beginnings, memory, row)
         found.append(outputs)
     return tuple(found)
 
 
-def _step_of(machine, beginnings, at, memory, row):
-    """Return what step does, for the class with a number."""
-    _, inputs, outputs, _, parts, body = machine[at]
-    work = Work(machine, beginnings, parts, memory)
-    work.known = dict(zip(inputs, row))
-    work.carry_out(body)
-    return (tuple([work.known.get(x) for x in outputs]), (tuple(work.held), tuple(work.inner)))
+def _step_of(machine, beginnings, memory, row):
+    """Return what step does; beginnings has those of all classes.
+
+    Parts may be called in parts, to any depth: the works that wait for the one that they call are kept in a list.
+    """
+    works = [Work(machine, beginnings, len(machine) - 1, memory, row)]
+    while True:
+        inner = works[-1].go_on()
+        if inner is not None:
+            works.append(inner)
+        elif len(works) == 1:
+            return (works[0].outputs(), works[0].memory())
+        else:
+            done = works.pop()
+            works[-1].take_from(done)
 
 
 class Work:
-    """One step of a class: what its variables, cells and parts hold."""
+    """One step of a class: what its variables, cells and parts hold, and the statements left, the next one last."""
 
-    def __init__(self, machine, beginnings, parts, memory):
+    def __init__(self, machine, beginnings, at, memory, row):
+        _, inputs, outputs, _, parts, body = machine[at]
         self.machine = machine
         self.beginnings = beginnings
+        self.output_names = outputs
         self.parts = parts
-        self.known = {}
+        self.known = dict(zip(inputs, row))
         self.held = list(memory[0])
         self.inner = list(memory[1])
+        self.rest = list(reversed(body))
+        self.waiting = None
 
-    def carry_out(self, statements):
-        """Carry out some statements, in order."""
-        for statement in statements:
+    def go_on(self):
+        """Carry out statements up to the next call, and return the work of the part, or None at the end."""
+        while self.rest:
+            statement = self.rest.pop()
             word = statement[0]
             if word == "set":
                 self.known[statement[1]] = value_of(statement[2], self)
             elif word == "store":
                 self.held[statement[1]] = value_of(statement[2], self)
             elif word == "case":
-                self.carry_out(self.branch(statement[1], statement[2]))
+                inside = self.branch(statement[1], statement[2])
+                self.rest.extend(list(reversed(inside)))
             else:
                 rest = statement[1:]
-                self.call(*rest)
+                return self.called(*rest)
+        return None
 
     def branch(self, x, branches):
         """Return the statements for the value of a variable, none if there is no branch for it."""
@@ -79,16 +94,30 @@ class Work:
                 return statements
         return ()
 
-    def call(self, names, k, args, reset):
-        """Let a part make a step, from its beginning if the reset says so."""
+    def called(self, names, k, args, reset):
+        """Return the work of a part, from its beginning if the reset says so; then its outputs are waited for."""
         part = self.parts[k]
         row = [value_of(arg, self) for arg in args]
         memory = self.inner[k]
         if reset is not None and value_of(reset, self) is True:
             memory = self.beginnings[part]
-        outputs, self.inner[k] = _step_of(self.machine, self.beginnings, part, memory, row)
-        for x, value in zip(names, outputs):
+        self.waiting = (names, k)
+        return Work(self.machine, self.beginnings, part, memory, row)
+
+    def take_from(self, done):
+        """Take the outputs and the memory of the work that was waited for."""
+        names, k = self.waiting
+        self.inner[k] = done.memory()
+        for x, value in zip(names, done.outputs()):
             self.known[x] = value
+
+    def outputs(self):
+        """Return the tuple of the values of the outputs."""
+        return tuple([self.known.get(x) for x in self.output_names])
+
+    def memory(self):
+        """Return the memory behind the step."""
+        return (tuple(self.held), tuple(self.inner))
 
 
 def size_of(machine):

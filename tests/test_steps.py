@@ -343,6 +343,16 @@ class StepsTest(unittest.TestCase):
                         parts=(0,), before=(ADDER,))
         self.assertEqual(self.run_it(value, (T,), (F,), (F,), (T,), (T,)), ((0,), (None,), (None,), (2,), (4,)))
 
+    def test_many_parts_inside_each_other(self):
+        a = ("var", "a")
+        classes = (("c0", ("a",), ("b",), (0,), (), (("set", "b", ("cell", 0)), ("store", 0, ("add", 5, a, ("cell", 0))))),)
+        for k in range(1, 1500):
+            body = (("case", "a", ((1, (("call", ("b",), 0, (a,), None),)), (2, (("set", "b", const(7)),)))),)
+            classes += ((f"c{k}", ("a",), ("b",), (), (0,), body),)
+        self.assertTrue(is_step_machine(classes))
+        self.assertEqual(run_steps(classes, ((1,), (1,), (2,), (1,), (3,))), ((0,), (1,), (7,), (2,), (None,)))
+        self.assertEqual(size_of(classes), 1)
+
     def test_no_rows_no_inputs_no_outputs(self):
         value = machine(("store", 0, ("add", 5, ("cell", 0), const(1))), inputs=(), outputs=(), cells=(0,))
         self.assertEqual(run_steps(value, ()), ())
