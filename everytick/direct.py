@@ -2,8 +2,9 @@
 
 from everytick.clocks import clocks_of
 from everytick.definitions import defined_in
+from everytick.holding import Pool
 from everytick.instances import (
-    Plan, is_true, moments_of, plan_of, run_of, step_of, watched_in, worked_out,
+    Plan, is_true, moments_of, outcome_of, plan_of, run_of, step_of, watched_in,
 )
 from everytick.lowering import Lowering
 from everytick.programs import node_named, variables_in
@@ -15,52 +16,56 @@ from everytick.uses import blocks_of, needed
 class Switch:
     """The step of a block up to its equations.
 
-    The instance keeps under number k the number of the next state, the mark whether it is to be put back, the
-    states of the plans of all states, and the number of the state that was active last.
+    The instance keeps under number k, as cells, the number of the next state, the mark whether it is to be put back,
+    and the number of the state that was active last; and, as parts, the states of the plans of all states.
     """
 
-    def __init__(self, names, clock, k, plans, rows):
+    def __init__(self, names, clock, k, pool, plans, rows):
         self.names = names
         self.clock = clock
         self.k = k
+        self.pool = pool
         self.plans = plans
         self.rows = rows
 
-    def work(self, moment):
+    def work(self, moment, done):
         """Find the active state, and work out its equations."""
-        at, mark, inner, _ = moment.kept[self.k]
+        before = moment.kept[self.k]
+        at, mark, _ = before.cells
         found = first_true(self.rows[at], moment)
         if found is not None:
             mark, at = found
         plan = self.plans[at]
-        state = plan.beginning if mark else inner[at]
-        values = [moment.known[x] for x in plan.input_names]
-        told = worked_out(plan, state, values)
-        moment.give(self.names, told.outputs())
-        behind = (*inner[:at], told.state(), *inner[at + 1:])
-        moment.kept[self.k] = (at, False, behind, at)
+        state = plan.beginning if mark else before.parts[at]
+        values = tuple([moment.known[x] for x in plan.input_names])
+        outputs, behind = outcome_of(plan, state, values, done)
+        moment.give(self.names, outputs)
+        parts = (*before.parts[:at], behind, *before.parts[at + 1:])
+        moment.kept[self.k] = self.pool.held_of((at, False, at), parts)
 
 
 class Leave:
     """The last step of a block: whether a transition is taken behind its equations."""
 
-    def __init__(self, block, clock, k, rows):
+    def __init__(self, block, clock, k, pool, rows):
         self.states = [state[0] for state in block[1]]
         self.clock = clock
         self.k = k
+        self.pool = pool
         self.rows = rows
 
-    def work(self, moment):
+    def work(self, moment, done):
         """Find the next state."""
-        _, _, inner, active = moment.kept[self.k]
+        before = moment.kept[self.k]
+        active = before.cells[2]
         found = first_true(self.rows[active], moment)
         if found is not None:
             mark, at = found
-            moment.kept[self.k] = (at, mark, inner, active)
+            moment.kept[self.k] = self.pool.held_of((at, mark, active), before.parts)
 
     def active(self, moment):
         """Return the name of the state that is active at an instant."""
-        return self.states[moment.kept[self.k][3]]
+        return self.states[moment.kept[self.k].cells[2]]
 
 
 def first_true(rows, moment):
@@ -134,21 +139,22 @@ def _plan_with_blocks(program, node, plans):
         if entry[0] == "states":
             steps.append(_switch(program, node, entry, clock, lowering, plans, kept))
             rows = [_transitions(lowering, entry, state[3]) for state in entry[1]]
-            last.append(Leave(entry, clock, len(kept) - 1, rows))
+            last.append(Leave(entry, clock, len(kept) - 1, kept[-1][0], rows))
         else:
             steps.append(step_of(entry, clock, lowering, plans, kept))
     ordered = [steps[n] for n in first_schedule(whole, node[0])]
     equations = [entry for entry in node[4] if entry[0] != "states"]
-    return Plan(node, watched_in(equations), [*ordered, *last], (lowering.first_cells(), tuple(kept)))
+    return Plan(node, watched_in(equations), [*ordered, *last], lowering.first_cells(), kept)
 
 
 def _switch(program, node, block, clock, lowering, plans, kept):
-    """Return the step of a block, and put what it keeps at the beginning behind what is kept already."""
+    """Return the step of a block; it puts its pool and beginning behind those that are kept already."""
     nodes = [state_node(node, block, state, "") for state in block[1]]
     inner = [plan_of((program[0], (inside,), ""), inside, plans) for inside in nodes]
-    kept.append((0, False, tuple([plan.beginning for plan in inner]), 0))
+    pool = Pool([plan.pool for plan in inner])
+    kept.append((pool, pool.held_of((0, False, 0), tuple([plan.beginning for plan in inner]))))
     rows = [_transitions(lowering, block, state[2]) for state in block[1]]
-    return Switch(_variables_of(node, block), clock, len(kept) - 1, inner, rows)
+    return Switch(_variables_of(node, block), clock, len(kept) - 1, pool, inner, rows)
 
 
 def run_direct(program, rows):

@@ -2,7 +2,6 @@
 
 from everytick.claims import GOOD, observed
 from everytick.errors import TooMany
-from everytick.exact import key_of
 from everytick.machines import input_rows
 from everytick.state_forms import StateForms
 from everytick.systems import Watched
@@ -46,17 +45,17 @@ class Graph:
 
     def __init__(self, program):
         rows = input_rows(program)
-        states = all_states(program)
         system = Watched(program, GOOD)
-        numbers = {key_of(state): s for s, state in enumerate(states)}
-        self.start = numbers[key_of(system.start)]
+        states = [system.entered(state) for state in all_states(program)]
+        numbers = {state: s for s, state in enumerate(states)}
+        self.start = numbers[system.start]
         self.worst = {}
         self.before = [{} for _ in states]
         for s, state in enumerate(states):
             for row in rows:
                 good, after = system.onward(state, row)
                 if good:
-                    self.before[numbers[key_of(after)]][s] = True
+                    self.before[numbers[after]][s] = True
                 else:
                     self.worst[s] = True
 

@@ -3,6 +3,7 @@
 from everytick.clocks import clocks_of
 from everytick.errors import TickError
 from everytick.evaluation import settle, value_of
+from everytick.holding import Pool
 from everytick.lowering import Lowering
 from everytick.programs import node_named, parts_of
 from everytick.schedules import first_schedule
@@ -16,16 +17,18 @@ class NilFound(TickError):
 class Plan:
     """How the instances of a node are worked out: its steps, in an order in which all is known that each one needs.
 
-    A step has a clock and a method work(moment). The state of an instance is a pair of what its memories hold and
-    of what its steps keep beside memories: for a call the state of the instance that is called.
+    A step has a clock and a method work(moment, done), where done is a dict of outcome_of. The state of an instance
+    holds, beside what its memories hold, what its steps keep: for a call the state of the instance that is called.
+    The list kept has for each of these its pool and its beginning.
     """
 
-    def __init__(self, node, watched, steps, beginning):
+    def __init__(self, node, watched, steps, cells, kept):
         self.input_names = [x for x, _ in node[1]]
         self.output_names = [x for x, _ in node[2]]
         self.watched = watched
         self.steps = steps
-        self.beginning = beginning
+        self.pool = Pool([pool for pool, _ in kept])
+        self.beginning = self.pool.held_of(cells, tuple([first for _, first in kept]))
 
 
 class Moment:
@@ -34,8 +37,8 @@ class Moment:
     def __init__(self, plan, state):
         self.plan = plan
         self.known = {}
-        self.held = list(state[0])
-        self.kept = list(state[1])
+        self.held = list(state.cells)
+        self.kept = list(plan.pool.inner_of(state))
         self.later = []
 
     def give(self, names, values):
@@ -55,7 +58,7 @@ class Moment:
 
     def state(self):
         """Return the state behind the instant."""
-        return (tuple(self.held), tuple(self.kept))
+        return self.plan.pool.held_of(tuple(self.held), tuple(self.kept))
 
 
 class Setting:
@@ -66,7 +69,7 @@ class Setting:
         self.clock = clock
         self.tree = tree
 
-    def work(self, moment):
+    def work(self, moment, done):
         """Give the variable its value."""
         moment.give(self.names, [value_of(self.tree, moment)])
 
@@ -82,15 +85,14 @@ class Calling:
         self.given = args
         self.reset = reset
 
-    def work(self, moment):
+    def work(self, moment, done):
         """Work out the instance that is called, and give its outputs to the variables."""
-        inputs = [value_of(arg, moment) for arg in self.given]
+        inputs = tuple([value_of(arg, moment) for arg in self.given])
         state = moment.kept[self.k]
         if self.reset is not None and is_true(self.reset, moment):
             state = self.plan.beginning
-        inner = worked_out(self.plan, state, inputs)
-        moment.kept[self.k] = inner.state()
-        moment.give(self.names, inner.outputs())
+        outputs, moment.kept[self.k] = outcome_of(self.plan, state, inputs, done)
+        moment.give(self.names, outputs)
 
 
 def is_true(tree, moment):
@@ -101,13 +103,26 @@ def is_true(tree, moment):
     return value
 
 
-def worked_out(plan, state, inputs):
+def outcome_of(plan, state, inputs, done):
+    """Return the pair of the outputs of an instance and the state behind its instant; raise NilFound if it is a fault.
+
+    The dict done belongs to one instant of main, and has the pairs that were found in it: instances of one node that
+    hold the same and get the same inputs give the same. (Those of two nodes never hold the same object.)
+    """
+    key = (state, inputs)
+    if key not in done:
+        moment = worked_out(plan, state, inputs, done)
+        done[key] = (moment.outputs(), moment.state())
+    return done[key]
+
+
+def worked_out(plan, state, inputs, done):
     """Return the moment behind an instant of an instance; raise NilFound if the instant is a fault."""
     moment = Moment(plan, state)
     moment.give(plan.input_names, inputs)
     for step in plan.steps:
         if moment.has(step.clock):
-            step.work(moment)
+            step.work(moment, done)
     settle(moment)
     return moment
 
@@ -127,7 +142,7 @@ def watched_in(equations):
 
 
 def step_of(equation, clock, lowering, plans, kept):
-    """Return the step of an equation; a call puts its beginning behind those that are kept already."""
+    """Return the step of an equation; a call puts its pool and beginning behind those that are kept already."""
     names, right = equation
     if right[0] != "call":
         return Setting(names, clock, lowering.tree_of(right))
@@ -135,7 +150,7 @@ def step_of(equation, clock, lowering, plans, kept):
     args = [lowering.tree_of(arg) for arg in args]
     if reset is not None:
         reset = lowering.tree_of(reset)
-    kept.append(plans[callee].beginning)
+    kept.append((plans[callee].pool, plans[callee].beginning))
     return Calling(names, clock, len(kept) - 1, plans[callee], args, reset)
 
 
@@ -146,7 +161,7 @@ def plan_of(program, node, plans):
     kept = []
     steps = [step_of(equation, clocks[equation[0][0]], lowering, plans, kept) for equation in node[4]]
     ordered = [steps[n] for n in first_schedule(program, node[0])]
-    return Plan(node, watched_in(node[4]), ordered, (lowering.first_cells(), tuple(kept)))
+    return Plan(node, watched_in(node[4]), ordered, lowering.first_cells(), kept)
 
 
 def main_plan(program):
@@ -160,7 +175,7 @@ def main_plan(program):
 def instant_of(plan, state, row):
     """Return the moment behind an instant of main, or None if it is a fault."""
     try:
-        moment = worked_out(plan, state, row)
+        moment = worked_out(plan, state, row, {})
     except NilFound:
         return None
     if None in moment.outputs():

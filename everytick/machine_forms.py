@@ -43,7 +43,7 @@ def _is_memory_of(machine, at, value):
         return False
     if not all(cell is None or _is_constant(cell) for cell in held):
         return False
-    return all([_is_memory_of(machine, part, memory) for part, memory in zip(parts, inner)])
+    return all(_is_memory_of(machine, part, memory) for part, memory in zip(parts, inner))
 
 
 def _are_variables(value):

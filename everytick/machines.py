@@ -32,7 +32,7 @@ def explored(program, limit):
     while len(table) < len(found.states):
         state = found.states[len(table)]
         table.append(tuple([_entry(found, instant_of(plan, state, row)) for row in rows]))
-    return (rows, found.states, tuple(table))
+    return (rows, [state.tree for state in found.states], tuple(table))
 
 
 def _entry(found, moment):
@@ -52,13 +52,12 @@ class Numbering:
 
     def number_of(self, state):
         """Return the number of a state; raise TooMany if it is one more than the limit."""
-        key = key_of(state)
-        if key not in self.numbers:
+        if state not in self.numbers:
             if len(self.states) >= self.limit:
                 raise TooMany("there are too many states")
-            self.numbers[key] = len(self.states)
+            self.numbers[state] = len(self.states)
             self.states.append(state)
-        return self.numbers[key]
+        return self.numbers[state]
 
 
 def is_machine(value):

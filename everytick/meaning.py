@@ -7,7 +7,7 @@ from everytick.state_forms import StateForms
 
 def beginning(program):
     """Return the beginning of main."""
-    return main_plan(program).beginning
+    return main_plan(program).beginning.tree
 
 
 def is_row(program, value):
@@ -25,10 +25,11 @@ def is_state(program, value):
 
 def instant(program, state, row):
     """Return the pair of the output row and the state behind an instant, or None if it is a fault."""
-    moment = instant_of(main_plan(program), state, row)
+    plan = main_plan(program)
+    moment = instant_of(plan, plan.pool.opened(state), row)
     if moment is None:
         return None
-    return (moment.outputs(), moment.state())
+    return (moment.outputs(), moment.state().tree)
 
 
 def run(program, rows):

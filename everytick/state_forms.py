@@ -36,9 +36,9 @@ class StateForms:
         cells, calls = value
         if not is_tuple(cells, len(kinds), len(kinds)) or not is_tuple(calls, len(callees), len(callees)):
             return False
-        if not all([self.may_hold(kind, cell) for kind, cell in zip(kinds, cells)]):
+        if not all(self.may_hold(kind, cell) for kind, cell in zip(kinds, cells)):
             return False
-        return all([self.is_state_of(callee, state) for callee, state in zip(callees, calls)])
+        return all(self.is_state_of(callee, state) for callee, state in zip(callees, calls))
 
     def may_hold(self, kind, value):
         """Tell whether a memory for values of a kind, or for None alone, may hold any value."""

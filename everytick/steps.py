@@ -1,6 +1,8 @@
 """Step machines and their steps ([8.1] to [8.5])."""
 
 from everytick.evaluation import are_same, value_of
+from everytick.exact import key_of
+from everytick.holding import Pool
 from everytick.machine_forms import are_classes
 
 
@@ -11,62 +13,81 @@ def is_step_machine(value):
 
 def first_memory(machine):
     """Return the beginning of the main class."""
-    return _beginnings(machine)[-1]
-
-
-def _beginnings(machine):
-    """Return the list of the beginnings of all classes."""
-    found = []
-    for _, _, _, cells, parts, _ in machine:
-        found.append((cells, tuple([found[part] for part in parts])))
-    return found
+    return Stepper(machine).beginning.tree
 
 
 def step(machine, memory, row):
     """Return the pair of the outputs and the memory behind a step of the main class."""
-    return _step_of(machine, _beginnings(machine), memory, row)
+    stepper = Stepper(machine)
+    outputs, behind = stepper.stepped(stepper.pool.opened(memory), row)
+    return (outputs, behind.tree)
 
 
 def run_steps(machine, rows):
     """Return the tuple of the outputs of all steps from the beginning."""
-    beginnings = _beginnings(machine)
-    memory = beginnings[-1]
+    stepper = Stepper(machine)
+    memory = stepper.beginning
     found = []
     for row in rows:
-        outputs, memory = _step_of(machine, beginnings, memory, row)
+        outputs, memory = stepper.stepped(memory, row)
         found.append(outputs)
     return tuple(found)
 
 
-def _step_of(machine, beginnings, memory, row):
-    """Return what step does; beginnings has those of all classes.
+class Stepper:
+    """A step machine, with the pools of the memories of its classes and with their beginnings.
 
-    Parts may be called in parts, to any depth: the works that wait for the one that they call are kept in a list.
+    The attributes pool and beginning are those of the main class.
     """
-    works = [Work(machine, beginnings, len(machine) - 1, memory, row)]
-    while True:
-        inner = works[-1].go_on()
-        if inner is not None:
-            works.append(inner)
-        elif len(works) == 1:
-            return (works[0].outputs(), works[0].memory())
-        else:
-            done = works.pop()
-            works[-1].take_from(done)
+
+    def __init__(self, machine):
+        self.machine = machine
+        self.pools = []
+        self.beginnings = []
+        for _, _, _, cells, parts, _ in machine:
+            pool = Pool([self.pools[part] for part in parts])
+            self.pools.append(pool)
+            self.beginnings.append(pool.held_of(cells, tuple([self.beginnings[part] for part in parts])))
+        self.pool = self.pools[-1]
+        self.beginning = self.beginnings[-1]
+
+    def stepped(self, memory, row):
+        """Return the pair of the outputs and the memory behind a step of the main class.
+
+        Parts may be called in parts, to any depth: the works that wait for the one that they call are kept in a list.
+        Parts of one class that hold the same and are called with the same values give the same, so this is worked out
+        once: done has what was found, by the keys of the works. (Those of two classes never hold the same object.)
+        """
+        done = {}
+        works = [Work(self, len(self.machine) - 1, memory, row)]
+        while True:
+            work = works[-1]
+            inner = work.go_on()
+            if inner is None:
+                done[work.key] = (work.outputs(), work.memory())
+                works.pop()
+                if not works:
+                    return done[work.key]
+                works[-1].take_outcome(done[work.key])
+            elif inner.key in done:
+                work.take_outcome(done[inner.key])
+            else:
+                works.append(inner)
 
 
 class Work:
     """One step of a class: what its variables, cells and parts hold, and the statements left, the next one last."""
 
-    def __init__(self, machine, beginnings, at, memory, row):
-        _, inputs, outputs, _, parts, body = machine[at]
-        self.machine = machine
-        self.beginnings = beginnings
+    def __init__(self, stepper, at, memory, row):
+        _, inputs, outputs, _, parts, body = stepper.machine[at]
+        self.stepper = stepper
+        self.key = (memory, key_of(tuple(row)))
+        self.pool = stepper.pools[at]
         self.output_names = outputs
         self.parts = parts
         self.known = dict(zip(inputs, row))
-        self.held = list(memory[0])
-        self.inner = list(memory[1])
+        self.held = list(memory.cells)
+        self.inner = list(self.pool.inner_of(memory))
         self.rest = list(reversed(body))
         self.waiting = None
 
@@ -100,15 +121,15 @@ class Work:
         row = [value_of(arg, self) for arg in args]
         memory = self.inner[k]
         if reset is not None and value_of(reset, self) is True:
-            memory = self.beginnings[part]
+            memory = self.stepper.beginnings[part]
         self.waiting = (names, k)
-        return Work(self.machine, self.beginnings, part, memory, row)
+        return Work(self.stepper, part, memory, row)
 
-    def take_from(self, done):
-        """Take the outputs and the memory of the work that was waited for."""
+    def take_outcome(self, outcome):
+        """Take the outputs and the memory behind the step that was waited for."""
         names, k = self.waiting
-        self.inner[k] = done.memory()
-        for x, value in zip(names, done.outputs()):
+        outputs, self.inner[k] = outcome
+        for x, value in zip(names, outputs):
             self.known[x] = value
 
     def outputs(self):
@@ -117,7 +138,7 @@ class Work:
 
     def memory(self):
         """Return the memory behind the step."""
-        return (tuple(self.held), tuple(self.inner))
+        return self.pool.held_of(tuple(self.held), tuple(self.inner))
 
 
 def size_of(machine):

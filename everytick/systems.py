@@ -1,18 +1,20 @@
 """What goes from state to state by input rows, and certificates about it ([10.3], [10.4], [11.3] to [11.5]).
 
 A system has the attribute start, its state at the beginning; is_state(value), which tells whether any value is a
-state by its form; and onward(state, row), which tells of an instant whether it is as it shall be, and returns the
-state behind it, or None if it does not matter how it goes on.
+state by its form; entered(value), which returns the state that such a value is; and onward(state, row), which tells of
+an instant whether it is as it shall be, and returns the state behind it, or None if it does not matter how it goes on.
+States are objects of pools, or pairs of such: they are the same exactly if the values are. So a beginning is never
+gone through as a whole, however large it is.
 """
 
-from everytick.exact import are_exact, key_of
+from everytick.exact import are_exact
 from everytick.instances import instant_of, main_plan
 from everytick.machine_forms import is_memory
 from everytick.meaning import is_row
 from everytick.orders import choice_at, count_of, input_choices
 from everytick.programs import is_tuple
 from everytick.state_forms import StateForms
-from everytick.steps import first_memory, step
+from everytick.steps import Stepper
 
 
 class Watched:
@@ -27,6 +29,10 @@ class Watched:
     def is_state(self, value):
         """Tell whether any value is a state of the program."""
         return self.forms.is_state(value)
+
+    def entered(self, value):
+        """Return the state that a value is."""
+        return self.plan.pool.entered(value)
 
     def onward(self, state, row):
         """Tell whether an instant is as it shall be, and the state behind it."""
@@ -48,6 +54,10 @@ class Together:
         """Tell whether any value is a pair of states of the programs."""
         return is_tuple(value, 2, 2) and self.forms[0].is_state(value[0]) and self.forms[1].is_state(value[1])
 
+    def entered(self, value):
+        """Return the pair of states that a value is."""
+        return (self.plans[0].pool.entered(value[0]), self.plans[1].pool.entered(value[1]))
+
     def onward(self, state, row):
         """Tell whether an instant is as it shall be, and the states behind it."""
         mine = instant_of(self.plans[0], state[0], row)
@@ -66,18 +76,23 @@ class Carried:
         self.plan = main_plan(program)
         self.forms = StateForms(program)
         self.machine = machine
-        self.start = (self.plan.beginning, first_memory(machine))
+        self.stepper = Stepper(machine)
+        self.start = (self.plan.beginning, self.stepper.beginning)
 
     def is_state(self, value):
         """Tell whether any value is a pair of a state of the program and a memory of the machine."""
         return is_tuple(value, 2, 2) and self.forms.is_state(value[0]) and is_memory(self.machine, value[1])
+
+    def entered(self, value):
+        """Return the pair of a state and a memory that a value is."""
+        return (self.plan.pool.entered(value[0]), self.stepper.pool.entered(value[1]))
 
     def onward(self, state, row):
         """Tell whether an instant is as it shall be, and the state and the memory behind it."""
         moment = instant_of(self.plan, state[0], row)
         if moment is None:
             return (True, None)
-        outputs, memory = step(self.machine, state[1], row)
+        outputs, memory = self.stepper.stepped(state[1], row)
         if not are_exact(moment.outputs(), outputs):
             return (False, None)
         return (True, (moment.state(), memory))
@@ -90,14 +105,14 @@ def is_closed_in(system, program, value):
     """
     if not isinstance(value, tuple) or not all(system.is_state(state) for state in value):
         return False
-    keys = {key_of(state) for state in value}
-    if len(keys) < len(value) or key_of(system.start) not in keys:
+    states = {system.entered(state): True for state in value}
+    if len(states) < len(value) or system.start not in states:
         return False
     choices = input_choices(program)
-    for state in value:
+    for state in states:
         for k in range(count_of(choices)):
             good, after = system.onward(state, choice_at(choices, k))
-            if not good or (after is not None and key_of(after) not in keys):
+            if not good or (after is not None and after not in states):
                 return False
     return True
 
